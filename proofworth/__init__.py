@@ -1,0 +1,1 @@
+"""What each item of a proof is worth: proofs by detachment, and what falls without an item."""
