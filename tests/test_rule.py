@@ -120,7 +120,7 @@ class Detached(unittest.TestCase):
         front = "( x > y > x > y ) > z"
         self.assertEqual(rule(front, "p > q > ~ ~ ~ ~ ~ ~ r > ~ ~ ~ ~ s"), "x0")
 
-    # Each unknown is put twice for the one before, so written out they double twenty times.
+    # Each unknown is put twice for the one before, so written out they double with every one.
     def test_what_is_put_in_may_be_very_long(self):
         count = 30
         front = []
