@@ -1,7 +1,8 @@
-"""Reading one formula that is told, up to its semicolon."""
+"""Reading one formula that is told, up to its semicolon: within a text, or by itself."""
 
 from proofworth.faults import NOT_ALLOWED, TOO_DEEP, TOO_MANY_SIGNS, Fault
 from proofworth.formulas import DENIES, IMPLIES
+from proofworth.tokens import END, reader_of
 
 MOST_SIGNS = 40
 MOST_AROUND = 40
@@ -66,4 +67,11 @@ def read_formula(reader):
     reader.take(";")
     if len(formula) > MOST_SIGNS:
         raise Fault(TOO_MANY_SIGNS, start)
+    return formula
+
+
+def read_lone_formula(codes):
+    reader = reader_of(codes)
+    formula = read_formula(reader)
+    reader.expect(END)
     return formula

@@ -4,25 +4,9 @@ import unittest
 
 from proofworth.items import answers
 
-from tests.helper import JOINTS, SHOWN, UNDO, WORKED, WORTH, ask, codes, load, without
-
-FORMULA = codes("x > x ;")
-
-
-def try_out(axiom, formula=FORMULA):
-    return [5, axiom, len(formula)] + list(formula)
-
-
-def change(axiom, formula=FORMULA):
-    return [6, axiom, len(formula)] + list(formula)
-
-
-def compare(first, second):
-    return [8, first, second]
-
-
-def same(item):
-    return [9, item]
+from tests.helper import (
+    JOINTS, SHOWN, UNDO, WORKED, WORTH, ask, change, codes, compare, load, same, try_out, without,
+)
 
 
 class WhileThereIsNoText(unittest.TestCase):
@@ -55,6 +39,15 @@ class SeveralCalls(unittest.TestCase):
             self.assertEqual(alone == [-2], number % 8 == 7)
         self.assertEqual(told[39], [2, 3, 1, 6, 0])
 
+    def test_forty_of_every_kind(self):
+        turns = [SHOWN, without(2), WORTH, JOINTS, try_out(0, "x ;"), change(0), compare(3, 6), same(3), UNDO]
+        told = ask(load(WORKED), *(turns * 4), load("axiom a : x ;"), change(0), SHOWN)
+        self.assertEqual(len(told), 40)
+        for turn in range(1, 4):
+            self.assertEqual(told[1 + 9 * turn:10 + 9 * turn], told[1:10])
+        self.assertEqual(told[37:39], [[1, 1, 0, 0], [1, 2]])
+        self.assertEqual(bytes(told[39][1:]), b"axiom a : x0 > x0 ;\n")
+
     def test_forty_loads(self):
         told = ask(*[load(f"axiom a{number} : x ;") for number in range(39)], SHOWN)
         self.assertEqual(told[:39], [[1, 1, 0, 0]] * 39)
@@ -75,13 +68,21 @@ class SeveralCalls(unittest.TestCase):
         told = ask(load(wide), load(wide), load(wide), load(wide), SHOWN)
         self.assertEqual(told[:4], [[1, 1, 0, 0]] * 4)
 
+    def test_longest_formula(self):
+        told = ask(load("axiom a : x ;"), change(0, [120] * 8192), try_out(0, [120] * 8192), SHOWN, UNDO)
+        self.assertEqual(told[1:3], [[0, 1, 4096]] * 2)
+        self.assertEqual(bytes(told[3][1:]), b"axiom a : x0 ;\n")
+        self.assertEqual(told[4], [-3])
+
     def test_longest_text(self):
         self.assertEqual(ask(load([32] * 8192), load([32] * 8192)), [[0, 1, 4096]] * 2)
 
 
 class NothingIsKeptOrChanged(unittest.TestCase):
     def whole(self):
-        return load(WORKED) + without(2) + WORTH + JOINTS + SHOWN + load("axiom") + without(-1)
+        calls = load(WORKED) + without(2) + WORTH + JOINTS + SHOWN + load("axiom") + without(-1)
+        calls += try_out(0, "x > y > y ;") + change(0, "x > x ;") + change(1, "x x ;") + change(2) + SHOWN
+        return calls + compare(3, 6) + compare(0, -1) + same(3) + same(7) + UNDO + UNDO + SHOWN + WORTH
 
     def test_the_list_is_the_same_afterwards(self):
         calls = self.whole()
@@ -101,19 +102,13 @@ class NothingIsKeptOrChanged(unittest.TestCase):
         self.assertEqual(answers(self.whole()), kept)
 
     def test_the_object_is_new_each_time(self):
-        answers(load(WORKED))
+        answers(load(WORKED) + change(0))
         self.assertEqual(answers([3]), [1, -1])
+        self.assertEqual(answers(UNDO), [1, -1])
+        self.assertEqual(ask(load(WORKED), UNDO), [[1, 2, 5, 3], [-3]])
 
     def test_whole_numbers_in_a_list(self):
         told = answers(self.whole())
         self.assertIs(type(told), list)
         for number in told:
             self.assertIs(type(number), int)
-
-
-class CallsOfTheNextStage(unittest.TestCase):
-    # They are not answered by a guess while they are not there.
-    def test_with_a_text(self):
-        for call in (try_out(0), change(0), UNDO, compare(0, 0), same(0)):
-            with self.assertRaises(NotImplementedError):
-                ask(load(WORKED), call)

@@ -128,10 +128,17 @@ class Checker:
                 names.append(node.name)
             elif isinstance(node, ast.Assign) and is_plain(node.value) and isinstance(node.targets[0], ast.Name):
                 names += bound_names(node)
+                self.check_kept(node.value)
             else:
                 self.tell("L3", node)
         if len(names) != len(set(names)):
             self.tell("L15", 1)
+
+    def check_kept(self, value):
+        if isinstance(value, (ast.List, ast.Dict)):
+            inner = [node for node in ast.walk(value) if isinstance(node, (ast.List, ast.Dict))]
+            if len(inner) > 1:
+                self.tell("L15", value)
 
     def check_statement(self, node):
         if not isinstance(node, STATEMENTS):
@@ -176,6 +183,9 @@ class Checker:
                 changes = "append clear extend insert pop remove reverse setdefault update".split()
                 target = ast.unparse(inner.func.value)
                 if inner.func.attr in changes and re.search(rf"(^|\(|, ){re.escape(target)}($|\)|,)", walked):
+                    self.tell("L23", inner)
+            if isinstance(inner, ast.Subscript) and isinstance(inner.ctx, ast.Store):
+                if re.search(rf"(^|\(|, ){re.escape(ast.unparse(inner.value))}($|\)|,)", walked):
                     self.tell("L23", inner)
 
     def check_expression(self, node):
@@ -409,6 +419,9 @@ class TheChecksSee(unittest.TestCase):
             ("def f(a):\n    return sorted(a, cmp=1)\n", "L22"),
             ("def f(a):\n    return range(a)\n", "L23"),
             ("def f(a):\n    for b in a:\n        a.append(b)\n", "L23"),
+            ("def f(a):\n    for b, c in enumerate(a):\n        a[b] = 1\n", "L23"),
+            ("X = [[1], 2]\n", "L15"),
+            ("X = {1: [2]}\n", "L15"),
             ("def f(a):\n    return set(a)\n", "L24"),
             ("X = \"a % b\"\n", "L27"),
             ("X = \"\\x41\"\n", "L27"),

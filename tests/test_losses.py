@@ -6,7 +6,7 @@ import unittest
 from proofworth.formulas import is_instance
 from proofworth.texts import read_text
 
-from tests.helper import JOINTS, WORTH, ask, ask_of, codes, load, without
+from tests.helper import JOINTS, WORTH, ask, ask_of, codes, hangs_on, load, random_text, without
 
 K = "axiom k : x > y > x ; "
 N = "axiom n : ~ x ; "
@@ -122,31 +122,6 @@ class Joints(unittest.TestCase):
     def test_in_the_order_of_items_not_of_goals(self):
         text = K + N + "row a : k, n ; row b : k, a ; goal p > q > ~ r ; goal p > ~ q ;"
         self.assertEqual(ask_of(text, JOINTS), [[2, 2, 1, 3, 0]])
-
-
-# Texts by chance, with many ways to a goal, and rows that have no formula.
-def random_text(source):
-    shapes = ["x > y > x", "( x > y > z ) > ( x > y ) > x > z", "( ~ x > ~ y ) > y > x", "~ x", "x > x",
-              "x > ~ ~ x", "( x > y ) > x", "~ ~ x > y > x"]
-    names = []
-    text = ""
-    for number in range(source.randrange(1, 7)):
-        text += f"axiom a{number} : {source.choice(shapes)} ; "
-        names.append(f"a{number}")
-    for number in range(source.randrange(0, 25)):
-        text += f"row r{number} : {source.choice(names)}, {source.choice(names)} ; "
-        names.append(f"r{number}")
-    shapes += ["p > p", "q > p > p", "p > ~ ~ q", "~ ~ p > p", "p > q > r > p"]
-    for number in range(source.randrange(0, 5)):
-        text += f"goal {source.choice(shapes)} ; "
-    return text
-
-
-def hangs_on(proof, item):
-    if item < len(proof.axioms):
-        return {item}
-    first, second = proof.rows[item - len(proof.axioms)]
-    return {item} | hangs_on(proof, first) | hangs_on(proof, second)
 
 
 class Promises(unittest.TestCase):

@@ -3,13 +3,15 @@
 import random
 import unittest
 
-from proofworth.formulas import DENIES, IMPLIES, formula_form, is_instance
+from proofworth.formulas import IMPLIES, formula_form, is_instance
 from proofworth.reading import read_formula
 from proofworth.rule import detached
 from proofworth.texts import read_text
 from proofworth.tokens import reader_of
 
-from tests.helper import WORTH, ask_of, codes, proved
+from tests.helper import (
+    WORTH, ask_of, codes, flat, nested, plain_detached, proved, put_in, random_formula, random_nested,
+)
 
 
 def told(text):
@@ -186,80 +188,6 @@ class Proves(unittest.TestCase):
     def test_the_goal_is_taken_as_it_stands(self):
         self.assertEqual(proved("axiom a : x > x ; goal x > y ;"), 0)
         self.assertEqual(proved("axiom a : y > x ; goal x > y ;"), 1)
-
-
-# A second way to work it out, with formulas as nested tuples that are written out in full.
-def nested(formula, mark):
-    ready = []
-    for sign in reversed(formula):
-        if sign == IMPLIES:
-            first = ready.pop()
-            ready.append((">", first, ready.pop()))
-        elif sign == DENIES:
-            ready.append(("~", ready.pop()))
-        else:
-            ready.append(f"{mark}{sign}")
-    return ready[0]
-
-
-def put_in(formula, name, part):
-    if isinstance(formula, str):
-        return part if formula == name else formula
-    return (formula[0],) + tuple(put_in(inner, name, part) for inner in formula[1:])
-
-
-def has_name(formula, name):
-    if isinstance(formula, str):
-        return formula == name
-    return any(has_name(inner, name) for inner in formula[1:])
-
-
-def plain_detached(first, second):
-    whole = nested(first, "f")
-    if isinstance(whole, str):
-        return (0,)
-    if whole[0] == "~":
-        return None
-    pairs = [(whole[1], nested(second, "s"))]
-    result = whole[2]
-    while pairs:
-        one, other = pairs.pop()
-        if one == other:
-            continue
-        if not isinstance(one, str) and isinstance(other, str):
-            one, other = other, one
-        if isinstance(one, str):
-            if has_name(other, one):
-                return None
-            pairs = [(put_in(left, one, other), put_in(right, one, other)) for left, right in pairs]
-            result = put_in(result, one, other)
-        elif one[0] != other[0]:
-            return None
-        else:
-            pairs.extend(zip(one[1:], other[1:]))
-    formula = flat(result, {})
-    return formula if len(formula) <= 60 else None
-
-
-def flat(formula, numbers):
-    if isinstance(formula, str):
-        return (numbers.setdefault(formula, len(numbers)),)
-    inner = tuple(sign for part in formula[1:] for sign in flat(part, numbers))
-    return (IMPLIES if formula[0] == ">" else DENIES,) + inner
-
-
-def random_nested(source, signs, names):
-    if signs == 1:
-        return source.choice(names)
-    if signs == 2 or source.random() < 0.15:
-        return ("~", random_nested(source, signs - 1, names))
-    front = source.randrange(1, signs - 1)
-    return (">", random_nested(source, front, names), random_nested(source, signs - 1 - front, names))
-
-
-def random_formula(source, most):
-    names = "abcdefgh"[:source.randrange(1, 6)]
-    return flat(random_nested(source, source.randrange(1, most), names), {})
 
 
 class AgainstASecondWay(unittest.TestCase):
